@@ -83,6 +83,12 @@ func TestP1TheErrorNamedFirst(t *testing.T) {
 	c := midway(t)
 	_, _, e = c.Level(2, 2)
 	wantError(t, "P1: Level: node before tenant", e, api.ErrNode)
+	_, e = c.Ask(2, 2, 0)
+	wantError(t, "P1: Ask: node before tenant and cost", e, api.ErrNode)
+	_, e = c.Ask(1, 2, 0)
+	wantError(t, "P1: Ask: tenant before cost and a node that is not up", e, api.ErrTenant)
+	_, e = c.Ask(1, 1, 0)
+	wantError(t, "P1: Ask: cost before a node that is not up", e, api.ErrCost)
 }
 
 func TestP2WhatIsHandedInStays(t *testing.T) {
@@ -112,25 +118,37 @@ func TestP2WhatIsHandedInStays(t *testing.T) {
 // step makes one of some calls, by its number, and answers what it was answered.
 func step(c *Cluster, number int) [2]int {
 	node := number % 2
-	switch number % 7 {
+	var v int
+	var e api.Errno
+	switch number % 11 {
 	case 0:
-		return [2]int{int(c.Pass(number % 13))}
+		e = c.Pass(number % 13)
 	case 1:
-		return [2]int{int(c.Link(node, 2-number%3, number%3))}
+		e = c.Link(node, 2-number%3, number%3)
 	case 2:
-		return [2]int{int(c.Crash(node))}
-	case 3:
-		return [2]int{int(c.Start(node))}
+		e = c.Crash(node)
+	case 3, 4:
+		e = c.Start(node)
+	case 5, 6:
+		v, e = c.Campaign(node)
+	default:
+		v, e = c.Ask(node, number%3, number%5)
 	}
-	v, e := c.Campaign(node)
 	return [2]int{v, int(e)}
 }
 
 func TestP2ClustersAreApart(t *testing.T) {
 	alone := newCluster(t, 10, 3, two())
 	var answers [][2]int
+	var verdicts [api.Busy + 1]int
 	for i := range 500 {
 		answers = append(answers, step(alone, i*31+i/3))
+		verdicts[answers[i][0]]++
+	}
+	for _, v := range []int{api.Granted, api.Refused, api.Elsewhere, api.Admit, api.Deny} {
+		if verdicts[v] == 0 {
+			t.Errorf("the calls have never been answered %d: %v", v, verdicts)
+		}
 	}
 	first := newCluster(t, 10, 3, two())
 	second := newCluster(t, 4, 0, two()[:1])

@@ -49,6 +49,14 @@ func wantVerdict(t *testing.T, c *Cluster, node int, want int) {
 	}
 }
 
+func wantAsk(t *testing.T, c *Cluster, node int, tenant int, cost int, want int) {
+	t.Helper()
+	v, e := c.Ask(node, tenant, cost)
+	if v != want || e != api.OK {
+		t.Fatalf("Ask(%d, %d, %d) = %d, %d, want %d", node, tenant, cost, v, e, want)
+	}
+}
+
 func wantWitness(t *testing.T, c *Cluster, want api.Witness) {
 	t.Helper()
 	if w := c.Witness(); w != want {

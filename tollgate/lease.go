@@ -32,6 +32,10 @@ func (c *Cluster) Campaign(node int) (int, api.Errno) {
 // Witness tells what the witness keeps (P7).
 func (c *Cluster) Witness() api.Witness { return c.witness }
 
+func (c *Cluster) hasLease(node int) bool {
+	return c.gates[node].own.Up && c.now < c.gates[node].own.Until
+}
+
 // mayLead tells whether the witness grants the node a lease.
 func (c *Cluster) mayLead(node int) bool {
 	if c.witness.Holder == node || c.witness.Holder == nobody {

@@ -48,4 +48,6 @@ func (c *Cluster) Level(node int, tenant int) (int, int, api.Errno) {
 
 func isNode(node int) bool { return node == 0 || node == 1 }
 
+func other(node int) int { return 1 - node }
+
 func (c *Cluster) hasTenant(tenant int) bool { return tenant >= 0 && tenant < c.count }

@@ -80,9 +80,6 @@ func isWindow(window int, tenants []api.Tenant) bool {
 	return true
 }
 
-// Ask decides a request (P9, P10).
-func (c *Cluster) Ask(node int, tenant int, cost int) (int, api.Errno) { return 0, api.OK }
-
 // Join brings the other node up to date (P11).
 func (c *Cluster) Join(node int) (int, api.Errno) { return 0, api.OK }
 
