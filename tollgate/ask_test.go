@@ -12,15 +12,8 @@ func TestP9WrongNumbers(t *testing.T) {
 	for _, node := range odd {
 		for _, tenant := range odd {
 			for _, cost := range odd {
-				want := api.OK
-				switch {
-				case !isAny(node, 0, 1):
-					want = api.ErrNode
-				case !isAny(tenant, 0, 1):
-					want = api.ErrTenant
-				case cost < 1 || cost > 2000000:
-					want = api.ErrCost
-				case node == 1:
+				want := wrongRequest(node, tenant, cost)
+				if want == api.OK && node == 1 {
 					want = api.ErrDown
 				}
 				v, e := c.Ask(node, tenant, cost)

@@ -89,6 +89,10 @@ func TestP1TheErrorNamedFirst(t *testing.T) {
 	wantError(t, "P1: Ask: tenant before cost and a node that is not up", e, api.ErrTenant)
 	_, e = c.Ask(1, 1, 0)
 	wantError(t, "P1: Ask: cost before a node that is not up", e, api.ErrCost)
+	_, e = c.Wait(2, 2, 0)
+	wantError(t, "P1: Wait: node before tenant and cost", e, api.ErrNode)
+	_, e = c.Wait(1, 2, 0)
+	wantError(t, "P1: Wait: tenant before cost", e, api.ErrTenant)
 }
 
 func TestP2WhatIsHandedInStays(t *testing.T) {
@@ -115,46 +119,64 @@ func TestP2WhatIsHandedInStays(t *testing.T) {
 	wantError(t, "P2: a tenant of the spare room", e, api.ErrTenant)
 }
 
-// step makes one of some calls, by its number, and answers what it was answered.
-func step(c *Cluster, number int) [2]int {
-	node := number % 2
-	var v int
-	var e api.Errno
-	switch number % 11 {
-	case 0:
-		e = c.Pass(number % 13)
-	case 1:
-		e = c.Link(node, 2-number%3, number%3)
-	case 2:
-		e = c.Crash(node)
-	case 3, 4:
-		e = c.Start(node)
-	case 5, 6:
-		v, e = c.Campaign(node)
-	default:
-		v, e = c.Ask(node, number%3, number%5)
+// scrambled is a row of numbers without a pattern, always the same for one seed.
+func scrambled(seed uint64, count int) []int {
+	var row []int
+	for range count {
+		seed = seed*6364136223846793005 + 1442695040888963407
+		row = append(row, int(seed>>33))
 	}
-	return [2]int{v, int(e)}
+	return row
+}
+
+// step makes one of some calls, by its number, and answers what it was answered: a verdict, ticks, an error.
+func step(c *Cluster, number int) [3]int {
+	code := number
+	kind, node := choice(&code, 24), choice(&code, 2)
+	var v, ticks int
+	var e api.Errno
+	switch {
+	case kind < 2:
+		e = c.Pass(choice(&code, 5) - 1)
+	case kind < 4:
+		modes := [6]int{api.Up, api.Up, api.Up, api.Half, api.Down, api.Down + 1}
+		e = c.Link(node, choice(&code, 3), modes[choice(&code, 6)])
+	case kind < 5:
+		e = c.Crash(node)
+	case kind < 8:
+		e = c.Start(node)
+	case kind < 12:
+		v, e = c.Campaign(node)
+	case kind < 14:
+		v, e = c.Join(node)
+	case kind < 16:
+		ticks, e = c.Wait(node, choice(&code, 3), choice(&code, 14))
+	default:
+		v, e = c.Ask(node, choice(&code, 3), choice(&code, 6))
+	}
+	return [3]int{v, ticks, int(e)}
 }
 
 func TestP2ClustersAreApart(t *testing.T) {
 	alone := newCluster(t, 10, 3, two())
-	var answers [][2]int
+	numbers := scrambled(1, 2000)
+	var answers [][3]int
 	var verdicts [api.Busy + 1]int
-	for i := range 500 {
-		answers = append(answers, step(alone, i*31+i/3))
+	for i, n := range numbers {
+		answers = append(answers, step(alone, n))
 		verdicts[answers[i][0]]++
 	}
-	for _, v := range []int{api.Granted, api.Refused, api.Elsewhere, api.Admit, api.Deny} {
-		if verdicts[v] == 0 {
+	for v, times := range verdicts {
+		if times == 0 {
 			t.Errorf("the calls have never been answered %d: %v", v, verdicts)
 		}
 	}
 	first := newCluster(t, 10, 3, two())
 	second := newCluster(t, 4, 0, two()[:1])
-	for i := range 500 {
-		step(second, i*17)
-		got := step(first, i*31+i/3)
+	others := scrambled(2, len(numbers))
+	for i, n := range numbers {
+		step(second, others[i])
+		got := step(first, n)
 		if got != answers[i] {
 			t.Fatalf("P2: call %d was answered %v beside another cluster, %v alone", i, got, answers[i])
 		}
@@ -174,7 +196,9 @@ func TestP2TellingChangesNothing(t *testing.T) {
 		c.Node(node)
 		for tenant := range 2 {
 			c.Level(node, tenant)
-			c.Wait(node, tenant, 1)
+			for cost := range 15 { // 0, more, and -1
+				c.Wait(node, tenant, cost)
+			}
 		}
 	}
 	if *c != before {

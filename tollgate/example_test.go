@@ -6,7 +6,6 @@ import (
 	"tollgate/api"
 )
 
-// The rows of the document's first example, up to the first Join.
 func TestExampleOfTwoTenants(t *testing.T) {
 	c := newCluster(t, 10, 0, two())
 	wantAsk(t, c, 0, 0, 4, api.Elsewhere)
@@ -18,6 +17,8 @@ func TestExampleOfTwoTenants(t *testing.T) {
 	wantLevel(t, c, 0, 0, 6, 0)
 	wantLevel(t, c, 1, 0, 6, 0)
 	wantAsk(t, c, 0, 0, 7, api.Deny)
+	wantWait(t, c, 0, 0, 7, 1)
+	wantWait(t, c, 0, 0, 11, -1)
 	wantOK(t, c.Pass(1))
 	wantAsk(t, c, 0, 0, 7, api.Admit)
 	wantLevel(t, c, 0, 0, 1, 0)
@@ -37,6 +38,20 @@ func TestExampleOfTwoTenants(t *testing.T) {
 	wantVerdict(t, c, 0, api.Granted)
 	wantWitness(t, c, api.Witness{Holder: 0, Epoch: 1, Until: 41, Solo: true})
 	wantNode(t, c, 0, api.Node{Up: true, Epoch: 1, Until: 41, Alone: true})
+	wantJoin(t, c, 0, api.Lost)
+	wantLevel(t, c, 0, 0, 10, 0)
+	wantLevel(t, c, 1, 0, 10, 0)
+	wantLevel(t, c, 0, 1, 1, 0)
+	wantLevel(t, c, 1, 1, 1, 0)
+	wantWitness(t, c, api.Witness{Holder: 0, Epoch: 1, Until: 41, Solo: true})
+	wantNode(t, c, 0, api.Node{Up: true, Epoch: 1, Until: 41})
+	wantOK(t, c.Link(0, 1, api.Up))
+	wantJoin(t, c, 0, api.Joined)
+	wantLevel(t, c, 1, 1, 1, 0)
+	wantWitness(t, c, api.Witness{Holder: 0, Epoch: 1, Until: 41})
+	wantOK(t, c.Pass(10))
+	wantVerdict(t, c, 1, api.Granted)
+	wantWitness(t, c, api.Witness{Holder: 1, Epoch: 2, Until: 51})
 }
 
 func TestExampleOfAWindow(t *testing.T) {

@@ -57,6 +57,22 @@ func wantAsk(t *testing.T, c *Cluster, node int, tenant int, cost int, want int)
 	}
 }
 
+func wantJoin(t *testing.T, c *Cluster, node int, want int) {
+	t.Helper()
+	v, e := c.Join(node)
+	if v != want || e != api.OK {
+		t.Fatalf("Join(%d) = %d, %d, want %d", node, v, e, want)
+	}
+}
+
+func wantWait(t *testing.T, c *Cluster, node int, tenant int, cost int, want int) {
+	t.Helper()
+	ticks, e := c.Wait(node, tenant, cost)
+	if ticks != want || e != api.OK {
+		t.Fatalf("Wait(%d, %d, %d) = %d, %d, want %d", node, tenant, cost, ticks, e, want)
+	}
+}
+
 func wantWitness(t *testing.T, c *Cluster, want api.Witness) {
 	t.Helper()
 	if w := c.Witness(); w != want {
@@ -94,4 +110,36 @@ func midway(t *testing.T) *Cluster {
 	c.gates[0].windows = [api.MaxTenants]int{2, 3}
 	c.gates[1].levels = [api.MaxTenants]int{5, 2}
 	return c
+}
+
+// wantWrongNodes holds a call that asks for a node that is up to its errors, in a cluster like midway, where node 1 is not.
+func wantWrongNodes(t *testing.T, c *Cluster, what string, call func(node int) (int, api.Errno)) {
+	t.Helper()
+	before := *c
+	for _, node := range odd {
+		want := api.ErrNode
+		switch node {
+		case 0:
+			continue
+		case 1:
+			want = api.ErrDown
+		}
+		v, e := call(node)
+		if v != 0 || e != want || *c != before {
+			t.Errorf("%s(%d) = %d, %d, want error %d; %+v, want %+v", what, node, v, e, want, *c, before)
+		}
+	}
+}
+
+// wrongRequest is the error of a request to a cluster of two tenants, whether the node is up or not.
+func wrongRequest(node int, tenant int, cost int) api.Errno {
+	switch {
+	case !isAny(node, 0, 1):
+		return api.ErrNode
+	case !isAny(tenant, 0, 1):
+		return api.ErrTenant
+	case cost < 1 || cost > 2000000:
+		return api.ErrCost
+	}
+	return api.OK
 }

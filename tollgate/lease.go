@@ -4,11 +4,9 @@ import "tollgate/api"
 
 // Campaign asks the witness for a lease (P8).
 func (c *Cluster) Campaign(node int) (int, api.Errno) {
-	if !isNode(node) {
-		return 0, api.ErrNode
-	}
-	if !c.gates[node].own.Up {
-		return 0, api.ErrDown
+	e := c.upError(node)
+	if e != api.OK {
+		return 0, e
 	}
 	arrives, answered := c.message(node, api.Arbiter)
 	if !arrives {

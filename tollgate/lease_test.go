@@ -8,20 +8,7 @@ import (
 
 func TestP8WrongNodes(t *testing.T) {
 	c := midway(t)
-	for _, node := range odd {
-		want := api.ErrNode
-		switch node {
-		case 0:
-			continue
-		case 1:
-			want = api.ErrDown
-		}
-		v, e := c.Campaign(node)
-		wantError(t, "P8: Campaign", e, want)
-		if v != 0 {
-			t.Errorf("P8: Campaign(%d) = %d, %d", node, v, e)
-		}
-	}
+	wantWrongNodes(t, c, "P8: Campaign", c.Campaign)
 }
 
 func TestP8ALeaseGoesOver(t *testing.T) {

@@ -4,11 +4,9 @@ import "tollgate/api"
 
 // Crash takes a node down (P6).
 func (c *Cluster) Crash(node int) api.Errno {
-	if !isNode(node) {
-		return api.ErrNode
-	}
-	if !c.gates[node].own.Up {
-		return api.ErrDown
+	e := c.upError(node)
+	if e != api.OK {
+		return e
 	}
 	c.gates[node].own = api.Node{}
 	c.gates[node].windows = [api.MaxTenants]int{}
@@ -44,6 +42,17 @@ func (c *Cluster) Level(node int, tenant int) (int, int, api.Errno) {
 		return 0, 0, api.ErrTenant
 	}
 	return c.gates[node].levels[tenant], c.gates[node].windows[tenant], api.OK
+}
+
+// upError is what is wrong with a call that asks for a node that is up.
+func (c *Cluster) upError(node int) api.Errno {
+	if !isNode(node) {
+		return api.ErrNode
+	}
+	if !c.gates[node].own.Up {
+		return api.ErrDown
+	}
+	return api.OK
 }
 
 func isNode(node int) bool { return node == 0 || node == 1 }

@@ -80,12 +80,6 @@ func isWindow(window int, tenants []api.Tenant) bool {
 	return true
 }
 
-// Join brings the other node up to date (P11).
-func (c *Cluster) Join(node int) (int, api.Errno) { return 0, api.OK }
-
-// Wait tells when a request could pass (P12).
-func (c *Cluster) Wait(node int, tenant int, cost int) (int, api.Errno) { return 0, api.OK }
-
 // Save writes a cluster down (P15).
 func (c *Cluster) Save() string { return "" }
 
