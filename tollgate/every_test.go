@@ -22,8 +22,9 @@ func checked(t *testing.T, c *Cluster, before Cluster, what string, e api.Errno,
 	*c = before
 }
 
-func TestP1NoNumberDoesHarm(t *testing.T) {
-	c := midway(t)
+// wantHarmless makes every call of a cluster at odd numbers.
+func wantHarmless(t *testing.T, c *Cluster) {
+	t.Helper()
 	before := *c
 	for _, a := range odd {
 		checked(t, c, before, "Pass", c.Pass(a))
@@ -50,6 +51,10 @@ func TestP1NoNumberDoesHarm(t *testing.T) {
 			}
 		}
 	}
+}
+
+func TestP1NoNumberDoesHarm(t *testing.T) {
+	wantHarmless(t, midway(t))
 }
 
 func TestP1NewAtAllNumbers(t *testing.T) {

@@ -94,6 +94,24 @@ func wantLevel(t *testing.T, c *Cluster, node int, tenant int, level int, window
 	}
 }
 
+// again is what Load makes of what Save writes of c: a cluster like it.
+func again(t *testing.T, c *Cluster) *Cluster {
+	t.Helper()
+	before := *c
+	text := c.Save()
+	loaded, e := Load(text)
+	if loaded == nil || e != api.OK {
+		t.Fatalf("P15: Load(%q) = %v, %d", text, loaded, e)
+	}
+	if *loaded != before {
+		t.Fatalf("P15: loaded of %q: %+v, want %+v", text, *loaded, before)
+	}
+	if second, third := c.Save(), loaded.Save(); second != text || third != text || *c != before {
+		t.Fatalf("P2, P15: saved three times: %q, %q, and of the one that was loaded %q", text, second, third)
+	}
+	return loaded
+}
+
 // midway is a cluster in which nearly nothing is as at first: node 0 has a lease and acts alone, node 1 is down.
 func midway(t *testing.T) *Cluster {
 	t.Helper()

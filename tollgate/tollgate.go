@@ -79,9 +79,3 @@ func isWindow(window int, tenants []api.Tenant) bool {
 	}
 	return true
 }
-
-// Save writes a cluster down (P15).
-func (c *Cluster) Save() string { return "" }
-
-// Load reads a cluster (P15).
-func Load(text string) (*Cluster, api.Errno) { return nil, api.OK }
